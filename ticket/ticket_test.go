@@ -754,18 +754,23 @@ func step(t *testing.T, q *ticket.Queue, m *model, call int) {
 }
 
 func TestP11_1_To_11_6_AllShortRuns(t *testing.T) {
-	for n := range 9 * 9 * 9 * 9 * 9 {
-		q, m := &ticket.Queue{}, &model{}
-		for ; n > 0; n /= 9 {
-			step(t, q, m, n%9)
-		}
-		there := m.there()
-		tells(t, q, m.greatest(), there...)
-		for k := range uint64(6) {
-			if p := q.Place(k); p != slices.Index(there, k) {
-				t.Fatalf("Place(%d) = %d of %v", k, p, there)
+	runs := 1
+	for length := range 6 {
+		for n := range runs {
+			q, m := &ticket.Queue{}, &model{}
+			for range length {
+				step(t, q, m, n%9)
+				n /= 9
+			}
+			there := m.there()
+			tells(t, q, m.greatest(), there...)
+			for k := range uint64(6) {
+				if p := q.Place(k); p != slices.Index(there, k) {
+					t.Fatalf("Place(%d) = %d of %v", k, p, there)
+				}
 			}
 		}
+		runs *= 9
 	}
 }
 
